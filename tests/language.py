@@ -14,8 +14,8 @@ import warnings
 
 BUILTINS = set(
     "len range enumerate zip min max sum abs sorted reversed int str bool list tuple dict set isinstance ord repr any"
-    " all divmod Exception ValueError TypeError KeyError IndexError LookupError ZeroDivisionError NotImplemented"
-    " StopIteration super map iter next".split()
+    " all divmod Exception ValueError TypeError KeyError IndexError LookupError ZeroDivisionError AttributeError"
+    " NotImplemented StopIteration super map iter next".split()
 )
 LIBRARY = {
     "heapq": {"heappush", "heappop", "heapify", "heapreplace", "heappushpop"},
@@ -77,6 +77,10 @@ class Sources:
             node.name for node in self.functions if isinstance(node.parent, ast.ClassDef) and not is_property(node)
         }
         self.properties = {node.name for node in self.functions if is_property(node)}
+        self.unset = {
+            row.name for node in self.classes.values() for row in node.body
+            if isinstance(row, ast.FunctionDef) and is_property(row) and not has_setter(node, row.name)
+        }
         self.class_values = {
             target.id for node in self.classes.values() for row in node.body if isinstance(row, ast.Assign)
             for target in row.targets
@@ -94,6 +98,15 @@ def is_property(function):
     return any(
         isinstance(one, ast.Name) and one.id == "property" or isinstance(one, ast.Attribute) and one.attr == "setter"
         for one in function.decorator_list
+    )
+
+
+def has_setter(node, name):
+    """Whether a class has a setter for its property of this name."""
+    return any(
+        isinstance(row, ast.FunctionDef) and row.name == name
+        and any(isinstance(one, ast.Attribute) and one.attr == "setter" for one in row.decorator_list)
+        for row in node.body
     )
 
 
@@ -262,8 +275,10 @@ def check_name(sources, node, tell):
             tell("L8", line, f"{node.name} is defined")
     elif isinstance(node, ast.Attribute):
         names = [node.attr]
+        if isinstance(node.ctx, ast.Store) and node.attr in sources.unset:
+            tell("L5", line, f"a property that is given has a setter: {node.attr}")
         own = sources.attributes | sources.methods | sources.properties | sources.class_values
-        if node.attr not in own | METHODS:
+        if node.attr not in own | METHODS | {"setter"}:
             tell("L18", line, f"attribute {node.attr}")
     for name in names:
         if name.startswith("__") and name not in DUNDERS or re.search(BARRED_NAMES, name) or name in ("open", "input"):
@@ -332,7 +347,8 @@ def check_function(sources, node, tell):
         plain = isinstance(one, ast.Name) and one.id in ("property", "staticmethod", "classmethod")
         if not in_class or not (plain or isinstance(one, ast.Attribute) and one.attr == "setter"):
             tell("L4", line, "decorator")
-    if ast.get_docstring(node) is None and not node.name.startswith("__"):
+    told = [one.attr for one in node.decorator_list if isinstance(one, ast.Attribute)]
+    if ast.get_docstring(node) is None and not node.name.startswith("__") and "setter" not in told:
         tell("style", line, f"{node.name} has no docstring")
     returns = [one.value for one in ast.walk(node) if isinstance(one, ast.Return)]
     if node.name == "__init__" and returns:
@@ -387,7 +403,7 @@ def check_error(sources, node, tell):
             if not isinstance(one, ast.Name) or one.id not in {"KeyError", "ZeroDivisionError"} | set(sources.classes):
                 tell("L19", node.lineno, "handler")
     if isinstance(node, ast.Raise) and node.exc is not None:
-        if called(node.exc) not in {"TypeError"} | set(sources.classes):
+        if called(node.exc) not in {"TypeError", "AttributeError"} | set(sources.classes):
             tell("L19", node.lineno, "raise")
 
 

@@ -6,6 +6,7 @@ import unittest
 
 import language
 
+GIVEN = "class C:\n    'd'\n\n    def __init__(self):\n        self.n = 1\n\n\nclass D:\n    'd'\n\n"
 HERE = os.path.dirname(os.path.abspath(__file__))
 
 
@@ -25,6 +26,7 @@ class Language(unittest.TestCase):
             ("L23", "def f(x):\n    'd'\n    row = zip(x, x)\n    return row\n"),
             ("L24", "def f(x):\n    'd'\n    return set(x)\n"),
             ("L25", "def f(x):\n    'd'\n    return x.hex()\n"),
+            ("L5", GIVEN + "    @property\n    def n(self):\n        'd'\n        return 1\n"),
             ("L18", "class C:\n    'd'\n\n\ndef f():\n    'd'\n    return [C]\n"),
             ("L19", "def f(x):\n    'd'\n    try:\n        return x[0]\n    except TypeError:\n        return 0\n"),
             ("L20", "def f(x, y):\n    'd'\n    return x is y\n"),
@@ -35,6 +37,18 @@ class Language(unittest.TestCase):
                 with open(os.path.join(package, "one.py"), "w", encoding="utf-8") as file:
                     file.write(text)
                 self.assertIn(rule, [fault.split()[0] for fault in language.faults(package)], text)
+
+    def test_a_setter_in_each_class(self):
+        setter = "\n    @n.setter\n    def n(self, value):\n        raise AttributeError('n')\n"
+        for end, found in ((setter, []), (setter + "\n\nclass E:\n    'd'\n\n", ["one.py:5"])):
+            text = GIVEN + "    @property\n    def n(self):\n        'd'\n        return 1\n" + end
+            if found:
+                text += "    @property\n    def n(self):\n        'd'\n        return 2\n"
+            with tempfile.TemporaryDirectory() as folder:
+                with open(os.path.join(folder, "one.py"), "w", encoding="utf-8") as file:
+                    file.write(text)
+                told = [fault.split()[1] for fault in language.faults(folder) if "has a setter" in fault]
+                self.assertEqual(told, found)
 
 
 if __name__ == "__main__":

@@ -51,6 +51,9 @@ class Made(Helping, unittest.TestCase):
         for part in ("ahead", "loop", "between", "second", "behind"):
             self.assertIsInstance(getattr(program, part), tuple)
             self.assertIsInstance(vars(Program)[part], property)
+        self.assertIsInstance(vars(Program)["names"], property)
+        with self.assertRaises(AttributeError):
+            program.names = ("a",)
         self.same(
             [program.given, program.results, program.names, program.again, program.loops, program.room],
             [("a", "b"), ("x", "z"), ("a", "b", "c", "x", "y", "z"), {"b": 0, "c": 3}, 2, 2],
