@@ -1,0 +1,130 @@
+"""Programs that are drawn, and what the document says of them, reckoned plainly and slowly."""
+
+import heapq
+
+from loopstow.deeds import Do, Make, Use
+from loopstow.errors import StowError
+from loopstow.prices import Prices
+from loopstow.programs import Program
+from loopstow.tasks import Task
+
+
+def drawn_deed(source, names):
+    kind = source.randrange(6)
+    if kind < 3:
+        return Use(*source.sample(names, min(source.choice((1, 1, 1, 2, 3)), len(names))))
+    if kind == 3:
+        return Make(source.choice(names))
+    return Do(source.choice(names), *source.sample(names, source.choice((1, 1, 2)) if len(names) > 1 else 1))
+
+
+def drawn_program(source, loops=0, names="abcd", most=4):
+    """A program with so many loops and up to so many deeds in a part, which can be made."""
+    while True:
+        names = list(names)[:source.randrange(1, len(names) + 1)] if source.random() < 0.3 else list(names)
+        rows = [[drawn_deed(source, names) for _ in range(source.randrange(most + 1))] for _ in range(5)]
+        some = lambda share: [name for name in names if source.random() < share]
+        try:
+            return Program(
+                rows[0], rows[1] if loops else None, rows[2] if loops == 2 else (), rows[3] if loops == 2 else None,
+                rows[4] if loops else (), given=some(0.7),
+                again={name: source.choice((0, 1, 2, 3, 9)) for name in some(0.2)}, results=some(0.3),
+            )
+        except StowError:
+            continue
+
+
+def drawn_prices(source, names="abcd"):
+    price = lambda: source.choice((0, 1, 1, 1, 2, 3, 5, 9))
+    loads = {name: price() for name in names if source.random() < 0.3}
+    return Prices(price(), price(), loads if source.random() < 0.5 else None)
+
+
+def drawn_task(source, loops=0, names="abcd", most=4, slots=4):
+    while True:
+        program = drawn_program(source, loops, names, most)
+        try:
+            return Task(program, source.randrange(1, slots + 1), drawn_prices(source, names))
+        except StowError:
+            continue
+
+
+def needed_now(deeds, results, at):
+    """The needed names ahead of a deed of a straight row, by the words of the document."""
+    found = []
+    for name in sorted({name for deed in deeds for name in deed.names} | set(results)):
+        wanted = name in results
+        for deed in deeds[at:]:
+            if name in deed.uses:
+                wanted = True
+                break
+            if name == deed.makes:
+                wanted = False
+                break
+        if wanted:
+            found.append(name)
+    return tuple(found)
+
+
+def moves_from(task, held, kept):
+    """All moves from a standing of all names: word, name, price, the standing behind it."""
+    again = task.program.again
+    for name in task.program.names:
+        one = frozenset([name])
+        if name in held:
+            yield "forget", name, 0, (held - one, kept)
+            if name not in kept:
+                yield "store", name, task.prices.store, (held, kept | one)
+        elif len(held) < task.slots:
+            if name in kept:
+                yield "load", name, task.prices.load_of(name), (held | one, kept)
+            if name in again:
+                yield "again", name, again[name], (held | one, kept)
+
+
+def spread(task, found):
+    """The least prices of all standings that can be reached by moves from those that are found."""
+    queue = [(price, sorted(held), sorted(kept)) for (held, kept), price in found.items()]
+    heapq.heapify(queue)
+    least = {}
+    while queue:
+        price, held, kept = heapq.heappop(queue)
+        state = (frozenset(held), frozenset(kept))
+        if state in least:
+            continue
+        least[state] = price
+        for _, _, more, (other_held, other_kept) in moves_from(task, *state):
+            if (other_held, other_kept) not in least:
+                heapq.heappush(queue, (price + more, sorted(other_held), sorted(other_kept)))
+    return least
+
+
+def behind_deed(task, deed, held, kept):
+    """The standing behind a deed, or None."""
+    if not set(deed.uses) <= held:
+        return None
+    made = frozenset([deed.makes]) if deed.makes else frozenset()
+    if len(held | made) > task.slots:
+        return None
+    return held | made, kept - made
+
+
+def all_reached(task):
+    """For each moment of a straight task the least prices of all standings of all names, found by a search."""
+    found = {(frozenset(), frozenset(task.program.given)): 0}
+    rows = [spread(task, found)]
+    for deed in task.program.ahead:
+        found = {}
+        for (held, kept), price in rows[-1].items():
+            state = behind_deed(task, deed, held, kept)
+            if state is not None and price < found.get(state, price + 1):
+                found[state] = price
+        rows.append(spread(task, found))
+    return rows
+
+
+def plain_least(task, n=0, m=0):
+    """The least price of a right plan, found by a search over all standings."""
+    straight = task.straight(n, m)
+    results = set(task.program.results)
+    return min(price for (_, kept), price in all_reached(straight)[-1].items() if results <= kept)
