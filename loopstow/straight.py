@@ -16,12 +16,22 @@ def least_price(task, n=0, m=0):
 def least_plan(task, n=0, m=0):
     """A right plan with the least price for the straight form of some rounds."""
     straight = task.straight(n, m)
-    reaches, spot = searched(straight)
+    return with_forgetting(straight, least_rows(straight))
+
+
+def least_rows(task):
+    """The rows of a least plan of a straight task, with moves of needed names only."""
+    reaches, spot = searched(task)
     rows = []
     for reach in reversed(list(reaches)):
         spot, moves = reach.trail(spot)
-        rows.append([Move.read(text) for text in moves])
-    return with_forgetting(straight, rows[::-1])
+        rows.append(moves_of(moves))
+    return rows[::-1]
+
+
+def moves_of(texts):
+    """The row of moves with these texts."""
+    return tuple([Move.read(text) for text in texts])
 
 
 def searched(task):

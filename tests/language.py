@@ -412,6 +412,8 @@ def check_families(sources, tell):
         tell("L5", 0, f"property {name} has the name of a method or a class value")
     for name in sorted(sources.generators & (sources.attributes | METHODS)):
         tell("L23", 0, f"generator {name} has the name of an attribute or a method")
+    for name in sorted(sources.methods & sources.attributes):
+        tell("L18", 0, f"{name} is a method here and an attribute there")
     names = [node.name for node in sources.functions if not is_property(node)]
     for name in sorted(sources.generators):
         if names.count(name) > 1:

@@ -109,11 +109,11 @@ def behind_deed(task, deed, held, kept):
     return held | made, kept - made
 
 
-def all_reached(task):
-    """For each moment of a straight task the least prices of all standings of all names, found by a search."""
-    found = {(frozenset(), frozenset(task.program.given)): 0}
+def all_reached(task, found=None, deeds=None):
+    """The least prices of all standings of all names, found by a search: ahead of each deed and behind all."""
+    found = found or {(frozenset(), frozenset(task.program.given)): 0}
     rows = [spread(task, found)]
-    for deed in task.program.ahead:
+    for deed in task.program.ahead if deeds is None else deeds:
         found = {}
         for (held, kept), price in rows[-1].items():
             state = behind_deed(task, deed, held, kept)
@@ -123,8 +123,44 @@ def all_reached(task):
     return rows
 
 
+def at_least(reached, standing):
+    """The least price of a standing that is at least as good as this one."""
+    slots, stored = set(standing.slots), set(standing.stored)
+    return min(price for (held, kept), price in reached.items() if slots <= held and stored <= kept)
+
+
+def to_the_end(task, standing, deeds):
+    """The least price from a standing to the end, if these deeds are to be done."""
+    found = {(frozenset(standing.slots), frozenset(standing.stored)): 0}
+    results = set(task.program.results)
+    last = all_reached(task, found, deeds)[-1]
+    return min([price for (_, kept), price in last.items() if results <= kept], default=None)
+
+
 def plain_least(task, n=0, m=0):
     """The least price of a right plan, found by a search over all standings."""
     straight = task.straight(n, m)
     results = set(task.program.results)
     return min(price for (_, kept), price in all_reached(straight)[-1].items() if results <= kept)
+
+
+def late_tasks():
+    """Tasks whose tables turn late, with their turns."""
+    return [
+        (Task(
+            Program(loop=[Use("c"), Use("d"), Use("e"), Use("a")], given="acf", again={"a": 5, "d": 7, "e": 8, "f": 2},
+                    results="ce"),
+            3, Prices(8, 9, {"b": 2, "c": 3, "f": 2, "d": 5, "e": 3, "a": 8}),
+        ), (55, 3, 16)),
+        (Task(
+            Program([Make("c")], [Use("f"), Use("c"), Use("e"), Use("b")], behind=[Do("b", "d")], given="bde",
+                    again={"a": 7, "e": 8, "f": 9}, results="be"),
+            3, Prices(7, 8, {"a": 6, "c": 9, "f": 9, "b": 3, "d": 1}),
+        ), (48, 3, 28)),
+        (Task(
+            Program([Do("c", "c"), Use("b", "a"), Do("f", "e", "d"), Use("a"), Do("f", "c"), Make("c")],
+                    [Use("f"), Use("e"), Use("c"), Use("a"), Use("b")], given="ce", again={"a": 8, "b": 6, "d": 3},
+                    results="cf"),
+            4, Prices(3, 9, {"d": 7, "e": 1, "b": 3}),
+        ), (109, 4, 13)),
+    ]
