@@ -9,6 +9,9 @@ from math import gcd, lcm
 
 from loopstow.errors import TooMany
 
+# Where no period is known ahead, one of so few steps is looked for first.
+FEW = 120
+
 
 def least_period(tail, step):
     """The least period of a row that has this tail of one period, and this step."""
@@ -29,14 +32,25 @@ def least_period(tail, step):
 
 
 def least_repeat(tail, count, step, whole, most):
-    """The least period by which the first numbers of a tail, so many of them, repeat.
+    """The least period up to some most by which the first numbers of a tail, so many of them, repeat, or None.
 
     The row gains step with each whole, a number of steps that this period divides.
     """
     for period in range(1, min(int(whole), most) + 1):
         if whole % period == 0 and repeats(tail, count, period, step, whole):
             return period
-    raise TooMany(most)
+    return None
+
+
+def stretched(row, count):
+    """The first numbers of a row, so many of them."""
+    numbers = list(row.first)
+    again = numbers[row.start:]
+    gain = 0
+    while len(numbers) < count:
+        gain = gain + row.step
+        numbers.extend([number + gain for number in again])
+    return numbers[:count]
 
 
 def repeats(tail, count, period, step, whole):
@@ -75,11 +89,20 @@ class Meeting:
         self.levels = flat_levels(one, self.since, self.whole)
         self.other_levels = flat_levels(other, self.since, self.whole)
 
-    def first_step(self):
-        """The first step at which the first row is above the second one, or None."""
+    def most_above(self):
+        """How far the first row is above the second one at most, without what the one gains on the other."""
         tops = [top_level(self.levels, at, self.classes) for at in range(self.classes)]
         lows = [low_level(self.other_levels, at, self.classes) for at in range(self.classes)]
-        most = max([int(top - low) for top, low in zip(tops, lows)])
+        return max([int(top - low) for top, low in zip(tops, lows)])
+
+    def is_above(self, step):
+        """Whether the first row is above the second one at a step."""
+        level = self.gain * step + self.levels[step % len(self.levels)]
+        return level > self.other_levels[step % len(self.other_levels)]
+
+    def first_step(self):
+        """The first step at which the first row is above the second one, or None."""
+        most = self.most_above()
         first = 0
         count = self.whole
         if self.gain > 0:
@@ -89,10 +112,20 @@ class Meeting:
         elif most <= 0:
             count = 0
         for step in range(first, first + count):
-            level = self.gain * step + self.levels[step % len(self.levels)]
-            if level > self.other_levels[step % len(self.other_levels)]:
+            if self.is_above(step):
                 return step
         return None
+
+    def last_steps(self):
+        """How many steps there are at which the first row, which gains less, may be above the other one."""
+        return max(0, (self.most_above() - 1) // -self.gain + 1)
+
+    def steps_above(self, count):
+        """From which step on the first row is not above the other one at any of the first steps, so many of them."""
+        for left in range(count):
+            if self.is_above(count - 1 - left):
+                return count - left
+        return 0
 
     def lesser_period(self):
         """The least period of the lesser row of two that gain the same."""
@@ -137,15 +170,25 @@ def first_above(one, other):
 
 
 def sum_of(one, other, most):
-    """The numbers, the period and the step of the sum of two rows."""
+    """The numbers, a period and the step of the sum of two rows."""
     since = max(int(one.start), other.start)
     whole = lcm(one.period, other.period)
     step = one.step * (whole // one.period) + other.step * (whole // other.period)
+    if whole <= most:
+        return sums_of(one, other, since + whole), whole, step
     # If the changes of both rows over some steps make up for each other as long as this, they always do.
     count = one.period + other.period
-    sums = [one[n] + other[n] for n in range(since + count + most)]
-    period = least_repeat(sums[since:], count, step, whole, most)
-    return sums[:since + period], period, step * period // whole
+    for reach in (FEW, most):
+        sums = sums_of(one, other, since + count + reach)
+        period = least_repeat(sums[since:], count, step, whole, reach)
+        if period is not None:
+            return sums[:since + period], period, step * period // whole
+    raise TooMany(most)
+
+
+def sums_of(one, other, size):
+    """The first numbers of the sum of two rows, so many of them."""
+    return [number + more for number, more in zip(stretched(one, size), stretched(other, size))]
 
 
 def quotient_of(row, c, most):
@@ -163,11 +206,16 @@ def quotient_of(row, c, most):
 
 
 def rests_of(row, c, most):
-    """The numbers and the period of the rests of a row by an integer from 1."""
+    """The numbers and a period of the rests of a row by an integer from 1."""
     whole = row.period * (c // gcd(row.step, c))
-    rests = [row[n] % c for n in range(row.start + row.period + most)]
-    period = least_repeat(rests[row.start:], row.period, 0, whole, most)
-    return rests[:row.start + period], period
+    if whole <= most:
+        return [number % c for number in stretched(row, row.start + whole)], whole
+    for reach in (FEW, most):
+        rests = [number % c for number in stretched(row, row.start + row.period + reach)]
+        period = least_repeat(rests[row.start:], row.period, 0, whole, reach)
+        if period is not None:
+            return rests[:row.start + period], period
+    raise TooMany(most)
 
 
 def lesser_of(one, other, most):
@@ -175,12 +223,16 @@ def lesser_of(one, other, most):
     meeting = Meeting(one, other)
     if meeting.gain < 0:
         # The first row is the lesser one at last; if it is not yet here, it comes too late.
-        if first_above(one >> most, other >> most) is not None:
-            raise TooMany(most)
-        since, period = most, one.period
+        count = meeting.last_steps()
+        if meeting.since + count > most:
+            if first_above(one >> most, other >> most) is not None:
+                raise TooMany(most)
+            count = most - meeting.since
+        since, period = meeting.since + meeting.steps_above(count), one.period
     else:
         since, period = meeting.since, meeting.lesser_period()
         if period > most:
             raise TooMany(most)
-    numbers = [min(int(one[n]), other[n]) for n in range(since + period)]
+    size = since + period
+    numbers = [min(int(number), more) for number, more in zip(stretched(one, size), stretched(other, size))]
     return numbers, period, meeting.slope * period // meeting.whole
