@@ -14,8 +14,8 @@ def paper(task, most=120):
     shown = []
     for _ in range(since + period):
         reaches = rounds.onward(reach)
-        shown.append(entry_tables(reaches, rounds.head_ground))
-        reach = [reach, *reaches][-1]
+        shown.append(entry_tables(reaches[1:], rounds.head_ground))
+        reach = reaches[-1]
     return (since, period, gain), floors(task.straight()), entry_tables(opening, None), shown, last_tables(rounds)
 
 

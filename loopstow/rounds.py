@@ -38,8 +38,8 @@ class Rounds:
         return [reach, *reaches_along(self.yard, self.ahead_deeds, self.ahead_grounds[1:], reach, closed)]
 
     def onward(self, reach):
-        """The closed reaches behind each deed of a round with a further one, from the reach at its head."""
-        return reaches_along(self.yard, self.deeds, self.round_grounds[1:], reach, True)
+        """The closed reaches at the places of a round with a further one, from that at its head, which is the first."""
+        return [reach, *reaches_along(self.yard, self.deeds, self.round_grounds[1:], reach, True)]
 
     def closing(self):
         """The rests at the places of the last round and behind its deeds; the last one is that of the end."""
@@ -49,8 +49,8 @@ class Rounds:
         return [*rests_along(self.yard, self.last_deeds, self.last_grounds[:-1], rest), rest]
 
     def backward(self, rest):
-        """The rests ahead of each deed of a round with a further one, from the rest at the head of that one."""
-        return rests_along(self.yard, self.deeds, self.round_grounds[:-1], rest)
+        """The rests at the places of a round with a further one, from that at the head of that one, which is the last."""
+        return [*rests_along(self.yard, self.deeds, self.round_grounds[:-1], rest), rest]
 
 
 class Turning:
@@ -89,6 +89,6 @@ def turning_of(rounds, most):
     reach = rounds.opening(True)[-1]
     turning = Turning(reach.costs)
     while turning.found is None and len(turning.tables) <= most:
-        reach = [reach, *rounds.onward(reach)][-1]
+        reach = rounds.onward(reach)[-1]
         turning.note(reach.costs)
     return turning

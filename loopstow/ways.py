@@ -20,7 +20,7 @@ class Ways:
         rest = self.rests[0][0]
         while self.turning.found is None:
             self.rests.append(self.rounds.backward(rest))
-            rest = [*self.rests[-1], rest][0]
+            rest = self.rests[-1][0]
             self.turning.note(rest.costs)
         self.known = {}
 
