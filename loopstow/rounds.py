@@ -49,7 +49,7 @@ class Rounds:
         return [*rests_along(self.yard, self.last_deeds, self.last_grounds[:-1], rest), rest]
 
     def backward(self, rest):
-        """The rests at the places of a round with a further one, from that at the head of that one, which is the last."""
+        """The rests at the places of a round with a further one, from that at its end, which is the last."""
         return [*rests_along(self.yard, self.deeds, self.round_grounds[:-1], rest), rest]
 
 

@@ -192,6 +192,18 @@ class Played(Helping, unittest.TestCase):
                 raise KeyError("x")
         self.same(state(bench), before)
         kept = bench.trial()
+        maker = Bench(Task(Program([Make("x"), Make("x")], given=["x"]), 1))
+        with maker.trial():
+            maker.advance()
+            self.same(str(maker.standing), "x / -")
+        self.same([str(maker.standing), maker.done], ["- / x", 0])
+        maker.advance()
+        with maker.trial():
+            maker.move("store x")
+            with maker.trial():
+                maker.advance()
+            self.same(str(maker.standing), "x / x")
+        self.same([str(maker.standing), maker.done], ["x / -", 1])
         bench.move("forget a")
         with kept:
             bench.move("load b")

@@ -139,6 +139,23 @@ class Sound(Helping, unittest.TestCase):
         self.same([str(one) for one in fall.standings(("loop", 1))], ["- / -"])
         self.same([str(one) for one in fall.standings(("loop", 1), further=False)], ["- / x", "x / -", "x / x"])
 
+    def test_told_as_a_rule(self):
+        """If nothing is said of them, all rounds are to come."""
+        loops = ([Make("x"), Use("x")], [Use("b")])
+        program = Program([Use("a")], loops[0], [Use("x")], loops[1], [Use("x")], given=["a", "b", "x"])
+        task = Task(program, 2)
+        for place, text in (
+            (("ahead", 0), "- / a b"), (("ahead", 1), "- / b"), (("loop", 2), "- / b"), (("between", 1), "- / b x"),
+            (("second", 1), "- / b x"),
+        ):
+            self.same(str(next(task.standings(place))), text)
+        for place, told, text in (
+            (("ahead", 1), {"first": False}, "- / b x"), (("ahead", 1), {"second": False}, "- / -"),
+            (("loop", 2), {"further": False}, "- / b x"), (("second", 1), {"further": False}, "- / x"),
+            (("between", 1), {"second": False}, "- / x"), (("loop", 0), {"second": False}, "- / -"),
+        ):
+            self.same(str(next(task.standings(place, **told))), text)
+
     def test_names_in_order(self):
         program = Program([Use("ab"), Use("a"), Use("b")], given=["a", "ab", "b"])
         found = [(one.slots, one.stored) for one in Task(program, 3).standings(("ahead", 0))]
