@@ -164,3 +164,33 @@ def late_tasks():
             4, Prices(3, 9, {"d": 7, "e": 1, "b": 3}),
         ), (109, 4, 13)),
     ]
+
+
+def long_endings():
+    """Tasks whose least plans depend on how many rounds are to come, also if these are many."""
+    return [
+        Task(
+            Program(
+                [Do("a", "a"), Use("b", "a", "c")],
+                [Use("b"), Do("a", "c", "a"), Use("a"), Use("c", "a"), Use("e"), Use("a", "d")],
+                behind=[Do("a", "c", "b")], given="abde", again={"b": 9, "c": 4}, results="ad",
+            ),
+            4, Prices(8, 9, {"a": 1, "e": 9, "c": 3}),
+        ),
+        Task(
+            Program(
+                [Use("e"), Do("c", "b"), Use("a"), Use("a", "b", "c"), Use("e", "d", "a")],
+                [Use("c"), Use("b", "d"), Use("a"), Use("e")], behind=[Use("a")], given="de",
+                again={"a": 9, "b": 2, "d": 4}, results="ad",
+            ),
+            4, Prices(0, 7, {"c": 7, "d": 7, "e": 6, "b": 7, "a": 7}),
+        ),
+        Task(
+            Program(
+                [Use("b", "c"), Use("a", "b", "d"), Make("a")],
+                [Use("a"), Use("b", "d"), Use("b"), Use("c"), Use("d"), Use("c")], behind=[Use("c", "d", "b")],
+                given="abcd", again={"e": 3}, results="de",
+            ),
+            3, Prices(5, 8, {"c": 3, "d": 2, "e": 3, "b": 5, "a": 5}),
+        ),
+    ]

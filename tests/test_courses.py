@@ -15,7 +15,7 @@ from loopstow.prices import Prices
 from loopstow.programs import Program
 from loopstow.tables import turn
 from loopstow.tasks import Task
-from plainly import drawn_task, late_tasks
+from plainly import drawn_task, late_tasks, long_endings
 
 FAR = 10 ** 59
 
@@ -128,6 +128,31 @@ class Courses(Helping, unittest.TestCase):
             course = Course(task, 400)
             n = 60 + source.randrange(20)
             self.same(Walk(self, task, course, n, task.start).whole(), course.row[n])
+
+    def test_ends_that_depend_on_the_last_round(self):
+        for text, slots, prices in (
+            ("given a b c d;results c d;do d d a;loop;use b;use c;do a b;end;use d a;use c", 3, Prices(2, 5)),
+            ("given a b c d;again c 2;results b d;use c a;use a d;do d a c;do b b c;loop;use c;use d;use d;use d a;end;"
+             "use b d;use c", 3, Prices(1, 2)),
+            ("given a b c d;results d;use d;loop;make b;use a;do c c;use d;end;make c;use d a;do d b;use c d", 3,
+             Prices(1, 3)),
+        ):
+            self.check(Task(Program.read(text.replace(";", "\n")), slots, prices), (1, 2, 3, 4, 7))
+
+    def test_long_endings(self):
+        """Plans that depend on how many rounds are to come, also if these are many."""
+        for task in long_endings():
+            course = Course(task, 400)
+            for n in (1, 17, 30, *range(52, 62), 75, 110, 150):
+                self.same(Walk(self, task, course, n, task.start).whole(), course.row[n])
+            source = random.Random(94)
+            for n in (FAR, FAR + 1, FAR + 2):
+                self.far(task, course, n, source)
+                for r in (n - 70, n - 58, n - 57, n - 56, n - 55, n - 45, n - 40, n - 33):
+                    walk = Walk(self, task, course, n, course.standing_at(n, r))
+                    walk.round(r)
+                    self.assertEqual(course.standing_at(n, r + 1), walk.standing)
+                    self.same(course.spent(n, r + 1), course.spent(n, r) + walk.paid)
 
     def test_empty_loop(self):
         program = Program([Use("a")], [], behind=[Use("b"), Make("a")], given=["a", "b"], results=["a"])

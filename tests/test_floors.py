@@ -204,7 +204,13 @@ class Floors(Helping, unittest.TestCase):
         good = floors(task)
         dear = [good[0], {"- / -": (2, "a / -", ())}]
         self.same(shows_least(task, 2, dear), True)
-        # A deed that leads on for less.
+        # A deed leads on for less from a standing that the next table does not come from.
+        dear = [dict(tiny_tables()[0]), {"- / -": (4, "a / -", ())}]
+        dear[0]["a / -"] = (4, None, ("load a", "forget a", "load a"))
+        self.same([shows_least(task, 4, dear), shows_least(task, 2, dear)], [False, False])
+        # A standing that is not reached, with all that follows from it.
+        cheap = [{"- / a": (0, None, ()), "a / -": (0, None, ()), "a / a": (0, None, ())}, {"- / -": (0, "a / a", ())}]
+        self.same(shows_least(task, 0, cheap), False)
         pair = Task(Program([Use("a"), Use("b")], given=["a", "b"]), 2, Prices(1, 1))
         tables = floors(pair)
         far = {text: (number + 1, before, moves) for text, (number, before, moves) in tables[1].items()}

@@ -213,6 +213,48 @@ class Plainly(Helping, unittest.TestCase):
         self.refused(TooMany, lambda: (Row.even(0, 1) + pulse(1999)) % 7, 2000)
         self.refused(TooMany, lambda: pulse(1999) + pulse(1998), 2000)
 
+    def test_short_sums_of_long_rows(self):
+        """The common period is above 2,000, and that of the sum or of the rests is not."""
+        def pulse(period, height=1, at=0):
+            return Row([height if n == at else 0 for n in range(period)], period, 0)
+
+        for first, second, third in ((19, 17, 100), (3, 1, 666), (1, 7, 285), (11, 13, 150), (40, 49, 40), (20, 99, 3)):
+            for more in (Row.even(0, 0), Row.even(7, -3), Row([9, 5, 1, 2], 1, 3)):
+                one, other = pulse(first, 4, 0) + pulse(third, 2), pulse(second, 3) - pulse(third, 2) + more
+                self.same([one + other == pulse(first, 4) + pulse(second, 3) + more, (one + other).period],
+                          [True, lcm(first, second)])
+                self.same(one - -other, pulse(first, 4) + pulse(second, 3) + more)
+        for period, c in ((1000, 7), (1999, 2), (300, 40), (150, 119), (97, 121), (13, 1999)):
+            row = Row.even(0, 1) + pulse(period) * c
+            self.same(row.period, period)
+            self.same((row % c).first, tuple(range(c)))
+            self.same(((row >> 1) % c).period, c)
+            if lcm(period, c) > 2000:
+                self.refused(TooMany, lambda: (row + pulse(period)) % c, 2000)
+            else:
+                self.same(((row + pulse(period)) % c).period, lcm(period, c))
+
+    def test_crossings_with_long_pauses(self):
+        """Two pulses meet at n, and again only 1,960 numbers later."""
+        for n, height, last in (
+            (100, 50, None), (300, 55, 300), (100, 80, 100), (100, 60, 100), (1950, 50, 1950), (1950, 60, 1950), (1959, 50, 1959),
+            (1, 0, None), (39, 20, None),
+            (30, 55, None), (30, 70, 30), (300, 0, None), (100, 120, -1),
+        ):
+            one = Row([100 if at == n % 40 else 0 for at in range(40)], 40, 0)
+            other = Row([height if at == n % 49 else 150 for at in range(49)], 49, 1)
+            crossed = [at for at in range(8000) if one[at] > other[at]]
+            if last is None:
+                self.assertGreater(crossed[-1] + 1 + 40, 2000)
+                for call in (lambda: one & other, lambda: other & one, lambda: -one | -other):
+                    self.refused(TooMany, call, 2000)
+            else:
+                self.same(crossed[-1:], [last] if last >= 0 else [])
+                row = one & other
+                self.same([row.start, row.period, row == other & one, -row == (-one | -other)],
+                          [last + 1, 40, True, True])
+                self.same(list(row.numbers(2500)), [min(one[at], other[at]) for at in range(2500)])
+
     def test_late_crossings(self):
         """The lesser row begins to repeat where the rows have crossed for the last time."""
         for far in (0, 1, 15, 130, 1000, 1997, 1998, 1999, 2000, 2001, 2002, 3000, 10 ** 7, FAR):

@@ -40,6 +40,10 @@ class Straight(Helping, unittest.TestCase):
         )
         self.check_plan(Task(busy(), 2, Prices(1, 5)), 3)
         self.same([least_price(turns(), n) for n in range(6)], [0, 3, 4, 6, 7, 9])
+        self.same([least_price(turns()), least_plan(turns())], [0, [[]]])
+        twice = Task(Program(loop=[Use("a")], second=[Use("b")], given=["a", "b"]), 1)
+        self.same([least_price(twice), least_price(twice, 1), least_price(twice, m=1), len(least_plan(twice, 2))],
+                  [0, 1, 1, 3])
 
     def test_small(self):
         for program, slots, prices, price in (
