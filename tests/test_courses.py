@@ -4,12 +4,12 @@ import random
 import unittest
 
 from helping import Helping, strange_values
-from loopstow.bench import play
+from loopstow.bench import Bench, play
 from loopstow.courses import Course
 from loopstow.deeds import Make, Use
 from loopstow.errors import BadNumber, NoLoop, TooMany, TwoLoops
 from loopstow.loops import row
-from loopstow.moves import Move
+from loopstow.moves import Forget, Move
 from loopstow.needed import needed
 from loopstow.prices import Prices
 from loopstow.programs import Program
@@ -119,6 +119,31 @@ class Courses(Helping, unittest.TestCase):
         begun.rows(course.head(n), "ahead", task.program.ahead)
         self.assertEqual(course.standing_at(n, 0), begun.standing)
         self.same(course.spent(n, 0), begun.paid)
+
+    def test_on_a_bench(self):
+        """What the course says is done on a bench, with the forgetting of what is not needed."""
+        source = random.Random(95)
+        for _ in range(40):
+            task = drawn_task(source, loops=1, names="abc", most=4)
+            course, program = Course(task), task.program
+            for n in (0, 1, 3):
+                bench = Bench(task, n)
+                places = [(("ahead", at), {"first": n > 0}) for at in range(len(program.ahead))]
+                rows = list(course.head(n))
+                for r in range(n):
+                    places += [(("loop", at), {"further": r < n - 1}) for at in range(len(program.loop))]
+                    rows += course.moves(n, r)
+                places += [(("behind", at), {}) for at in range(len(program.behind) + 1)]
+                rows += course.tail(n)
+                for (place, told), row in zip(places, rows, strict=True):
+                    for name in bench.standing.slots:
+                        if name not in needed(program, place, **told):
+                            bench.move(Forget(name))
+                    for move in row:
+                        bench.move(move)
+                    if bench.deed is not None:
+                        bench.advance()
+                self.same([bench.is_right, bench.paid], [True, course.row[n]])
 
     def test_many_rounds_one_by_one(self):
         """Where the ways come round, the plan is the same as one that is gone round by round."""
