@@ -1,11 +1,15 @@
 """Tables of one loop, and their turn [9]."""
 
+import inspect
 import random
 import unittest
 
 from helping import Helping, strange_values
+from loopstow.courses import Course
 from loopstow.deeds import Do, Make, Use
 from loopstow.errors import BadNumber, NoLoop, StowError, TooMany, TwoLoops
+from loopstow.loops import row
+from loopstow.papers import paper
 from loopstow.prices import Prices
 from loopstow.programs import Program
 from loopstow.straight import least_price
@@ -44,7 +48,7 @@ class Tables(Helping, unittest.TestCase):
             rows = [table(task, r) for r in range(s + 2 * p + 2)]
             for r in range(s, len(rows) - p):
                 self.same(rows[r + p], {text: number + q for text, number in rows[r].items()})
-            shapes = [sorted((text, number - min(row.values())) for text, number in row.items()) for row in rows]
+            shapes = [sorted((text, number - min(one.values())) for text, number in one.items()) for one in rows]
             for r in range(s + p):
                 self.assertNotIn(shapes[r], shapes[:r])
             self.assertIn(shapes[s + p], shapes[:s + p])
@@ -103,6 +107,10 @@ class Tables(Helping, unittest.TestCase):
             self.same(turn(task, s + p), (s, p, q))
             if s + p > 1:
                 self.refused(TooMany, lambda: turn(task, s + p - 1), s + p - 1)
+
+    def test_most_as_a_rule(self):
+        for call in (turn, row, paper, Course):
+            self.same(inspect.signature(call).parameters["most"].default, 120)
 
     def test_late_turns(self):
         for task, told in late_tasks():
