@@ -10,6 +10,11 @@ class Deed:
     MOST = 3
 
     @property
+    def names(self):
+        """All its names, ascending."""
+        return self._names
+
+    @property
     def room(self):
         """The least number of slots with which the deed can be done."""
         # No used name gives its slot to the made one, so each name takes one.
@@ -48,7 +53,7 @@ class Use(Deed):
         check_used(names)
         self.uses = names
         self.makes = None
-        self.names = ascending(names)
+        self._names = ascending(names)
 
 
 class Make(Deed):
@@ -58,7 +63,7 @@ class Make(Deed):
         check_names((name,))
         self.uses = ()
         self.makes = name
-        self.names = (name,)
+        self._names = (name,)
 
 
 class Do(Use, Make):
@@ -69,7 +74,7 @@ class Do(Use, Make):
         check_used(names)
         self.uses = names
         self.makes = name
-        self.names = ascending((name, *names))
+        self._names = ascending((name, *names))
 
 
 def check_used(names):

@@ -77,11 +77,6 @@ class Program:
         """All names, ascending."""
         return self._names
 
-    @names.setter
-    def names(self, value):
-        # Deeds and standings are given their names, so that a property of this name wants a setter.
-        raise AttributeError("the names of a program never change")
-
     @property
     def loops(self):
         """The number of loops."""

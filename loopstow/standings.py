@@ -12,9 +12,29 @@ class Standing:
         check_names(stored)
         check_unlike(slots)
         check_unlike(stored)
-        self.slots = ascending(slots)
-        self.stored = ascending(stored)
-        self.names = ascending((*slots, *stored))
+        self._slots = ascending(slots)
+        self._stored = ascending(stored)
+        self._names = ascending((*slots, *stored))
+
+    @property
+    def slots(self):
+        """The names in slots, ascending."""
+        return self._slots
+
+    @slots.setter
+    def slots(self, value):
+        # A task is given its slots, so that every property of this name wants a setter.
+        raise AttributeError("standings never change")
+
+    @property
+    def stored(self):
+        """The stored names, ascending."""
+        return self._stored
+
+    @property
+    def names(self):
+        """The names in slots and the stored ones, ascending."""
+        return self._names
 
     @classmethod
     def read(cls, text):

@@ -88,6 +88,27 @@ class Sources:
         self.attributes = {
             node.attr for node in nodes if isinstance(node, ast.Attribute) and isinstance(node.ctx, ast.Store)
         }
+        self.settable = {
+            row.name for node in self.classes.values() for row in node.body
+            if isinstance(row, ast.FunctionDef) and has_setter(node, row.name)
+        }
+        self.getters = [node for node in self.functions if is_getter(node)]
+        self.named = {}
+        for node in self.functions:
+            if not is_property(node):
+                self.named.setdefault(node.name, []).append(node)
+        self.fetching = {}
+        for node in self.getters:
+            self.fetching.setdefault(node.name, []).append(node)
+
+    def makings(self, name):
+        """The __init__ that runs when an object of a class is made, in a list."""
+        node = self.classes[name]
+        for row in node.body:
+            if isinstance(row, ast.FunctionDef) and row.name == "__init__":
+                return [row]
+        bases = [base.id for base in node.bases if base.id in self.classes]
+        return [making for base in bases for making in self.makings(base)][:1]
 
 
 def yields(function):
@@ -99,6 +120,10 @@ def is_property(function):
         isinstance(one, ast.Name) and one.id == "property" or isinstance(one, ast.Attribute) and one.attr == "setter"
         for one in function.decorator_list
     )
+
+
+def is_getter(function):
+    return any(isinstance(one, ast.Name) and one.id == "property" for one in function.decorator_list)
 
 
 def has_setter(node, name):
@@ -123,6 +148,8 @@ def faults(folder):
         for node in ast.walk(sources.trees[name]):
             for check in (check_node, check_name, check_call, check_function, check_class, check_error):
                 check(sources, node, tell)
+    for name, line, why in changes(sources):
+        found.append(f"L5 {name}:{line} {why}")
     check_families(sources, lambda rule, line, why: found.append(f"{rule} {why}"))
     check_cycles(sources, lambda rule, line, why: found.append(f"{rule} {why}"))
     return found
@@ -394,6 +421,124 @@ def check_class(sources, node, tell):
             tell("L18", node.lineno, f"class {node.id} as a value")
         if isinstance(parent, ast.Attribute) and parent.attr not in sources.class_values | {"read", "even"}:
             tell("L5", node.lineno, f"{node.id}.{parent.attr} is read off a class")
+
+
+SIGNS = {
+    ast.Add: "add", ast.Sub: "sub", ast.Mult: "mul", ast.FloorDiv: "floordiv", ast.Mod: "mod", ast.Pow: "pow",
+    ast.BitAnd: "and", ast.BitOr: "or", ast.BitXor: "xor", ast.LShift: "lshift", ast.RShift: "rshift",
+    ast.Lt: "lt", ast.LtE: "le", ast.Gt: "gt", ast.GtE: "ge", ast.Eq: "eq", ast.NotEq: "eq", ast.In: "contains",
+    ast.NotIn: "contains", ast.USub: "neg", ast.UAdd: "pos", ast.Invert: "invert",
+}
+MAY_CHANGE = {"__init__", "__call__", "__enter__", "__exit__", "__setitem__"} | {
+    name for name in DUNDERS if re.fullmatch("__i(?!nit__|ter__|nvert__)[a-z]+__", name)
+}
+
+
+def changes(sources):
+    """What properties and operators change, and what they are handed and call, through what they call, too."""
+    found = []
+    for root in sources.functions:
+        if is_getter(root) or root.name in DUNDERS - MAY_CHANGE:
+            for node in all_run(sources, root):
+                found.extend((root_file(sources, root), root.lineno, f"{root.name}: {why}")
+                             for why in changed_by(sources, node))
+    return found
+
+
+def root_file(sources, node):
+    """The name of the file in which a node stands."""
+    while not isinstance(node, ast.Module):
+        node = node.parent
+    return next(name for name, tree in sources.trees.items() if tree is node)
+
+
+def all_run(sources, root):
+    """The functions that a function may run, by the names alone, itself included."""
+    known, todo = {id(root): root}, [root]
+    while todo:
+        for node in ast.walk(todo.pop()):
+            for one in runs(sources, node):
+                if id(one) not in known:
+                    known[id(one)] = one
+                    todo.append(one)
+    return list(known.values())
+
+
+def runs(sources, node):
+    """The functions that a node runs, by the names alone."""
+    names = []
+    if isinstance(node, ast.Call) and isinstance(node.func, ast.Name):
+        if node.func.id in sources.classes or node.func.id == "cls":
+            holder = node
+            while node.func.id == "cls" and not isinstance(holder, ast.ClassDef):
+                holder = holder.parent
+            return sources.makings(holder.name if node.func.id == "cls" else node.func.id)
+        names = [node.func.id] + {"str": ["__str__"], "repr": ["__repr__"], "len": ["__len__"]}.get(node.func.id, [])
+    elif isinstance(node, ast.Call) and isinstance(node.func, ast.Attribute):
+        names = [node.func.attr]
+    elif isinstance(node, ast.Attribute) and isinstance(node.ctx, ast.Load):
+        return sources.fetching.get(node.attr, [])
+    elif isinstance(node, (ast.BinOp, ast.UnaryOp)) and node.op.__class__ in SIGNS:
+        names = [f"__{side}{SIGNS[node.op.__class__]}__" for side in ("", "r")]
+    elif isinstance(node, ast.Compare):
+        names = [f"__{SIGNS[sign.__class__]}__" for sign in node.ops if sign.__class__ in SIGNS]
+    elif isinstance(node, ast.Subscript) and isinstance(node.ctx, ast.Load):
+        names = ["__getitem__"]
+    elif isinstance(node, ast.FormattedValue):
+        names = ["__str__"]
+    return [one for name in names for one in sources.named.get(name, [])]
+
+
+def changed_by(sources, function):
+    """What the rows of a function itself change, or call that they are handed."""
+    own = {one.arg for one in function.args.args}
+    local = own | {one.id for one in ast.walk(function) if isinstance(one, ast.Name) and isinstance(one.ctx, ast.Store)}
+    fresh = fresh_names(function)
+    for node in ast.walk(function):
+        if isinstance(node, ast.Attribute) and isinstance(node.ctx, ast.Store):
+            if node.attr in sources.settable:
+                yield f"{function.name} gives {node.attr}, which may run a setter"
+            elif function.name != "__init__" or ast.unparse(node.value) != "self":
+                yield f"{function.name} changes {node.attr}"
+        if called(node) in local - {"cls"}:
+            yield f"{function.name} calls {called(node)}"
+        if isinstance(node, ast.Subscript) and isinstance(node.ctx, (ast.Store, ast.Del)):
+            if ast.unparse(node.value) not in fresh:
+                yield f"{function.name} changes an item of {ast.unparse(node.value)}"
+        if isinstance(node, ast.Call) and isinstance(node.func, ast.Attribute):
+            if node.func.attr in CHANGING and ast.unparse(node.func.value) not in fresh:
+                yield f"{function.name} changes {ast.unparse(node.func.value)}"
+
+
+CHANGING = {
+    "append", "clear", "extend", "insert", "pop", "remove", "reverse", "setdefault", "update", "sort", "add", "discard",
+}
+
+
+def fresh_names(function):
+    """The local variables that are only ever assigned lists and dicts that the function makes."""
+    made, other = set(), {one.arg for one in function.args.args}
+    for node in ast.walk(function):
+        if isinstance(node, ast.Assign):
+            for target in node.targets:
+                if isinstance(target, ast.Name) and is_made(node.value):
+                    made.add(target.id)
+                else:
+                    other |= {
+                        one.id for one in ast.walk(target) if isinstance(one, ast.Name) and isinstance(one.ctx, ast.Store)
+                    }
+        elif isinstance(node, (ast.For, ast.comprehension)):
+            other |= {one.id for one in ast.walk(node.target) if isinstance(one, ast.Name)}
+    return made - other
+
+
+def is_made(value):
+    kinds = (ast.List, ast.Dict, ast.Set, ast.ListComp, ast.DictComp, ast.SetComp)
+    if isinstance(value, kinds) or called(value) in ("list", "dict", "set", "sorted"):
+        return True
+    if isinstance(value, ast.BinOp) and isinstance(value.op, ast.Mult):
+        return is_made(value.left)
+    return isinstance(value, ast.Subscript) and isinstance(value.slice, ast.Slice)
 
 
 def check_error(sources, node, tell):

@@ -38,7 +38,9 @@ class Deeds(Helping, unittest.TestCase):
             (Do("do", "make", "use"), ("make", "use"), "do", ("do", "make", "use"), 3, "do do make use"),
         ):
             self.same([deed.uses, deed.makes, deed.names, deed.room, str(deed)], [uses, makes, names, room, text])
-            self.assertLessEqual({"uses", "makes", "names"}, set(vars(deed)))
+            self.assertLessEqual({"uses", "makes"}, set(vars(deed)))
+            with self.assertRaises(AttributeError):
+                deed.names = ("b",)
             again = Deed.read(text)
             self.assertIs(again.__class__, deed.__class__)
             self.assertEqual(again, deed)

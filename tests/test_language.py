@@ -50,6 +50,44 @@ class Language(unittest.TestCase):
                 told = [fault.split()[1] for fault in language.faults(folder) if "has a setter" in fault]
                 self.assertEqual(told, found)
 
+    def told(self, text):
+        """The classes and methods, or lines, of which the checker tells that they change something."""
+        with tempfile.TemporaryDirectory() as folder:
+            with open(os.path.join(folder, "one.py"), "w", encoding="utf-8") as file:
+                file.write(text)
+            return [
+                fault.split(" ", 2)[2] for fault in language.faults(folder)
+                if fault.startswith("L5 ") and ("gives" in fault or "changes" in fault or "calls" in fault)
+            ]
+
+    def test_what_properties_and_operators_run(self):
+        box = "class Box:\n    'd'\n\n    def __init__(self, n):\n        self.n = n\n\n\n"
+        own = "class Own:\n    'd'\n\n    def __init__(self, n):\n        self._n = n\n\n"
+        own += "    @property\n    def n(self):\n        'd'\n        return self._n\n\n"
+        own += "    @n.setter\n    def n(self, value):\n        self._n = value\n\n"
+        gives = "__init__ gives n, which may run a setter"
+        for row, call in (("    def __or__(self, other):", "__or__"), ("    @property\n    def m(self):\n        'd'", "m")):
+            for end, why in (
+                ("        return Box(1)\n", [gives]),
+                ("        return made(self)\n\n\ndef made(x):\n    'd'\n    return [Box(x)]\n", [gives]),
+                ("        return Own(1)\n", []),
+                ("        self._n = 2\n", [f"{call} changes _n"]),
+                ("        return self.grown()\n\n    def grown(self):\n        'd'\n        self._n = 2\n",
+                 ["grown changes _n"]),
+                ("        return made(self, [])\n\n\ndef made(x, xs):\n    'd'\n    xs.append(x)\n", ["made changes xs"]),
+                ("        return made(self, [])\n\n\ndef made(x, xs):\n    'd'\n    xs[0] = x\n",
+                 ["made changes an item of xs"]),
+                ("        return made(self)\n\n\ndef made(x):\n    'd'\n    xs = []\n    xs.append(x)\n    return xs\n", []),
+                ("        return made(self)\n\n\ndef made(x):\n    'd'\n    return x(1)\n", ["made calls x"]),
+            ):
+                told = self.told(box + own + row + "\n" + end)
+                self.assertEqual(told, [f"{call}: {one}" for one in why], end)
+        self.assertEqual(self.told(box.replace("n", "k") + own + "    def __or__(self, other):\n        return Box(1)\n"), [])
+        shown = "    def __str__(self):\n        return f'{Box(1)}'\n"
+        self.assertEqual(self.told(box + own + shown), [f"__str__: {gives}"])
+        quiet = "    def grown(self):\n        'd'\n        self._n = 2\n        return Box(1)\n"
+        self.assertEqual(self.told(box + own + quiet), [])
+
 
 if __name__ == "__main__":
     unittest.main()

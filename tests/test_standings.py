@@ -13,7 +13,11 @@ class Standings(Helping, unittest.TestCase):
     def test_fields(self):
         standing = Standing(("c", "a"), ["b", "a"])
         self.same([standing.slots, standing.stored, standing.names], [("a", "c"), ("a", "b"), ("a", "b", "c")])
-        self.assertLessEqual({"slots", "stored", "names"}, set(vars(standing)))
+        for name in ("slots", "stored", "names"):
+            self.assertIsInstance(vars(Standing)[name], property)
+            with self.assertRaises(AttributeError):
+                setattr(standing, name, ("b",))
+        self.same([standing.slots, standing.stored, standing.names], [("a", "c"), ("a", "b"), ("a", "b", "c")])
         self.same([Standing().slots, Standing().stored, Standing().names], [(), (), ()])
         self.same(Standing(stored=["ab", "a", "b"]).stored, ("a", "ab", "b"))
         self.same(len(Standing([letter for letter in "abcdefghijklmnopqrstuvwxyz"]).slots), 26)
