@@ -74,12 +74,14 @@ def are_tables(value, grounds):
 
 def is_table(value, ground):
     """Whether any value is a dict from just the texts of the sound standings to what has the form of an entry."""
+    return has_texts(value, ground) and all([is_entry(value[text]) for text in ground.texts])
+
+
+def has_texts(value, ground):
+    """Whether any value is a dict whose keys are just the texts of the sound standings."""
     if not isinstance(value, dict) or len(value) != len(ground.texts):
         return False
-    for text in ground.texts:
-        if text not in value or not is_entry(value[text]):
-            return False
-    return True
+    return all([text in value for text in ground.texts])
 
 
 def is_entry(value):
@@ -88,7 +90,12 @@ def is_entry(value):
         return False
     if value[1] is not None and not isinstance(value[1], str):
         return False
-    return isinstance(value[2], tuple) and all([isinstance(text, str) for text in value[2]])
+    return are_texts(value[2])
+
+
+def are_texts(value):
+    """Whether any value is a tuple of strings."""
+    return isinstance(value, tuple) and all([isinstance(text, str) for text in value])
 
 
 def starts_well(task, yard, ground, table):
@@ -122,15 +129,21 @@ def leads_well(yard, ahead, deed, behind):
 
 def is_met(yard, ground, start, moves, aim, price):
     """Whether moves of needed names lead from one code to one that is at least as good as another, at a price."""
-    code = start
+    led = led_by_moves(yard, ground, start, moves)
+    return led is not None and led[0] & aim == aim and led[1] == price
+
+
+def led_by_moves(yard, ground, code, moves):
+    """The code behind moves of needed names, and their price, or None if they cannot be done."""
+    price = 0
     for text in moves:
         if text not in yard.costs or not yard.costs[text][1] & ground.wanted:
-            return False
+            return None
         code = yard.behind_move(code, text)
         if code is None:
-            return False
-        price = price - yard.costs[text][2]
-    return code & aim == aim and price == 0
+            return None
+        price = price + yard.costs[text][2]
+    return code, price
 
 
 def floors_by_moves(ground, table):

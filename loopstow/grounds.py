@@ -58,7 +58,7 @@ class Yard:
         behind = self.behind_deed(code, deed)
         if behind is None:
             return None
-        return ground.spots[behind & (ground.wanted | ground.wanted << UP)]
+        return ground.spots[behind & ground.mask_of_both]
 
     def behind_deed(self, code, deed):
         """The code behind a deed, or None if it cannot be done."""
@@ -94,6 +94,8 @@ class Ground:
 
     def __init__(self, yard, names):
         self.wanted = yard.mask(names)
+        # What a standing of needed names only may have.
+        self.mask_of_both = self.wanted | self.wanted << UP
         sides = sound_sides(names, yard.fixed, yard.room_for)
         self.codes = [yard.mask(held) | yard.mask(kept) << UP for held, kept in sides]
         self.spots = {code: spot for spot, code in enumerate(self.codes)}

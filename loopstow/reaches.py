@@ -6,14 +6,14 @@ from loopstow.grounds import NEVER
 class Reach:
     """The least prices at which the standings of a ground are reached at a place.
 
-    If it is closed, a standing that is at least as good counts as reached, too.
+    If it is closed, a standing that is at least as good counts as reached, too. All prices are taken so many times.
     """
 
-    def __init__(self, ground, costs, came, closed):
+    def __init__(self, ground, costs, came, closed, times=1):
         self.ground = ground
         # From which standing at the place ahead each standing came by the deed, before any move.
         self.came = came
-        self.via = swept(ground.arcs, costs, ground.again_here)
+        self.via = swept(ground.arcs, costs, ground.again_here, times)
         # Which standing was reached exactly where one at least as good counts.
         self.tops = list(range(len(costs)))
         self.costs = costs
@@ -38,7 +38,7 @@ class Rest:
 
     def __init__(self, ground, costs):
         self.ground = ground
-        self.via = swept(ground.back_arcs, costs, ground.again_here)
+        self.via = swept(ground.back_arcs, costs, ground.again_here, 1)
         self.costs = costs
 
     def trail(self, spot):
@@ -50,14 +50,14 @@ class Rest:
         return tuple(moves), spot
 
 
-def swept(arcs, costs, again):
+def swept(arcs, costs, again, times):
     """Lowers costs by all arcs; tells for each index from which other one its cost came, and by which move."""
     via = [None] * len(costs)
     changed = True
     while changed:
         changed = False
         for here, there, price, text in arcs:
-            cost = costs[here] + price
+            cost = costs[here] + price * times
             if cost < costs[there]:
                 costs[there] = cost
                 via[there] = (here, text)
@@ -72,22 +72,28 @@ def reach_from(ground, spot, closed):
     return Reach(ground, costs, [None] * len(costs), closed)
 
 
-def reach_behind(yard, reach, deed, ground, closed):
-    """The reach behind a deed."""
+def costs_behind(yard, reach, deed, ground):
+    """The least prices right behind a deed, ahead of any move, and the indexes from which it led there."""
     costs = [NEVER] * len(ground.codes)
     came = [None] * len(costs)
     for here, there in enumerate(yard.leads(reach.ground, deed, ground)):
         if there is not None and reach.costs[here] < costs[there]:
             costs[there] = reach.costs[here]
             came[there] = here
-    return Reach(ground, costs, came, closed)
+    return costs, came
 
 
-def reaches_along(yard, deeds, grounds, reach, closed):
+def reach_behind(yard, reach, deed, ground, closed, times=1):
+    """The reach behind a deed."""
+    costs, came = costs_behind(yard, reach, deed, ground)
+    return Reach(ground, costs, came, closed, times)
+
+
+def reaches_along(yard, deeds, grounds, reach, closed, times=1):
     """The reaches behind the deeds of a row; the grounds are those behind them."""
     found = []
     for deed, ground in zip(deeds, grounds):
-        reach = reach_behind(yard, reach, deed, ground, closed)
+        reach = reach_behind(yard, reach, deed, ground, closed, times)
         found.append(reach)
     return found
 

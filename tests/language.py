@@ -241,12 +241,14 @@ def is_docstring(row):
 
 def check_bindings(tree, tell):
     taken = {one.name for row in tree.body if isinstance(row, ast.ImportFrom) for one in row.names}
-    taken |= {row.name for row in tree.body if isinstance(row, (ast.ClassDef, ast.FunctionDef))}
+    taken |= {row.name for row in tree.body if isinstance(row, ast.ClassDef)}
+    # A parameter may have the name of a function of its file: the interface of the pace asks for one.
+    functions = {row.name for row in tree.body if isinstance(row, ast.FunctionDef)}
     for node in ast.walk(tree):
         name = node.arg if isinstance(node, ast.arg) else None
         if isinstance(node, ast.Name) and isinstance(node.ctx, ast.Store):
             name = node.id
-        if name in taken:
+        if name in taken or name in functions and not isinstance(node, ast.arg):
             tell("L15", node.lineno, f"{name} has the name of something of the file")
 
 
