@@ -10,7 +10,11 @@ from loopstow.straight import least_price
 def row(task, most=120):
     """The row of the least prices for n rounds."""
     check_one_loop(task.program)
-    rounds = Rounds(task)
+    return row_of_rounds(task, Rounds(task), most)
+
+
+def row_of_rounds(task, rounds, most):
+    """The row of the least prices for n of these rounds."""
     turning = turning_of(rounds, most)
     if turning.found is None:
         raise TooMany(most)

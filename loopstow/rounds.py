@@ -1,30 +1,41 @@
 """The rounds of a program with one loop: tables from the beginning, and tables to the end."""
 
+from loopstow.checks import ascending
+from loopstow.deeds import Deed
 from loopstow.grounds import NEVER, UP, Yard
-from loopstow.needed import needed_in_part
+from loopstow.needed import needed_along, needed_at_end, needed_in_part
 from loopstow.reaches import Rest, reach_from, reaches_along, rests_along
+
+
+class PinnedDeed(Deed):
+    """A deed that is done only if pins lie in slots, too, as if it used them."""
+
+    def __init__(self, deed, pins):
+        self.uses = (*deed.uses, *[name for name in pins if name not in deed.uses])
+        self.makes = deed.makes
+        self._names = ascending((*deed.names, *pins))
 
 
 class Rounds:
     """A task with one loop, in numbers, at the places of its rounds.
 
     The grounds of a round are those with a further round to come, ahead of each deed and behind all; those of the
-    last round go on behind each deed behind the loop.
+    last round go on behind each deed behind the loop. Pins are names that the loop uses and no deed makes; they lie
+    in slots whenever a deed of the loop is done.
     """
 
-    def __init__(self, task):
+    def __init__(self, task, pins=()):
         program = task.program
         self.yard = Yard(task)
-        self.deeds = program.loop
+        self.deeds = tuple([PinnedDeed(deed, pins) for deed in program.loop]) if pins else program.loop
         self.ahead_deeds = program.ahead
-        self.last_deeds = (*program.loop, *program.behind)
+        self.last_deeds = (*self.deeds, *program.behind)
         self.ahead_grounds = self.grounds_for(needed_in_part(program, "ahead", True, True, True))
-        self.round_grounds = self.grounds_for(needed_in_part(program, "loop", True, True, True))
+        self.round_grounds = self.grounds_for(
+            needed_along(self.deeds, needed_at_end(program, "loop", True, True, True))
+        )
         self.head_ground = self.round_grounds[0]
-        self.last_grounds = self.grounds_for([
-            *needed_in_part(program, "loop", True, False, True),
-            *needed_in_part(program, "behind", True, True, True)[1:],
-        ])
+        self.last_grounds = self.grounds_for(needed_along(self.last_deeds, program.results))
         self.begin = self.yard.code(task.start, self.ahead_grounds[0].wanted)
 
     def grounds_for(self, rows):

@@ -302,7 +302,7 @@ def check_name(sources, node, tell):
         names = [node.name]
         if node.name in BUILTINS | NOT_USED:
             tell("L8", line, f"{node.name} is defined")
-    elif isinstance(node, ast.Attribute):
+    elif isinstance(node, ast.Attribute) and not is_name_of_class(node):
         names = [node.attr]
         if isinstance(node.ctx, ast.Store) and node.attr in sources.unset:
             tell("L5", line, f"a property that is given has a setter: {node.attr}")
@@ -312,6 +312,18 @@ def check_name(sources, node, tell):
     for name in names:
         if name.startswith("__") and name not in DUNDERS or re.search(BARRED_NAMES, name) or name in ("open", "input"):
             tell("L12", line, f"name {name}")
+
+
+def is_name_of_class(node):
+    """Whether a node is `x.__class__.__name__`, or the inner part of one."""
+    if node.attr == "__class__":
+        node = node.parent
+    inner = getattr(node, "value", None)
+    return (
+        isinstance(node, ast.Attribute) and node.attr == "__name__" and isinstance(node.ctx, ast.Load)
+        and isinstance(inner, ast.Attribute) and inner.attr == "__class__"
+        and isinstance(inner.value, (ast.Name, ast.Attribute))
+    )
 
 
 def check_call(sources, node, tell):
