@@ -113,19 +113,18 @@ def first_turn_of(rows, turn):
     since, period, gain = turn
     # Those of one more period are told, so that each one can be held against a later one.
     known = [*rows, *[row + gain for row in rows[since + 1:]]]
-    for shorter in range(1, period + 1):
-        if period % shorter == 0:
-            more = known[since + 1 + shorter][0] - known[since + 1][0]
-            if more * (period // shorter) == gain and comes_again(known, since + 1, period, shorter, more):
-                start = since + 1
-                while start > 1 and known[start - 1 + shorter] == known[start - 1] + more:
-                    start -= 1
-                return start, shorter, more
-    return since + 1, period, gain
+    # The tables may take longer to come round than the rows that follow from them.
+    shorter = [count for count in range(1, period + 1) if comes_again(known, since + 1, period, count)][0]
+    more = known[since + 1 + shorter][0] - known[since + 1][0]
+    start = since + 1
+    while start > 1 and known[start - 1 + shorter] == known[start - 1] + more:
+        start -= 1
+    return start, shorter, more
 
 
-def comes_again(rows, start, count, period, gain):
-    """Whether so many rows from a start on come again a period later, with the same number added."""
+def comes_again(rows, start, count, period):
+    """Whether so many rows from a start on come again a period later, with the same number added to all of them."""
+    gain = rows[start + period][0] - rows[start][0]
     return all([rows[index + period] == rows[index] + gain for index in range(start, start + count)])
 
 

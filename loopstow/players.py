@@ -41,7 +41,7 @@ class Player:
     def play_part(self, part):
         """Plays a part once; returns the rows of moves ahead of its deeds."""
         rows = []
-        for at, deed in enumerate(self.whole.deeds_of(part) or ()):
+        for at, deed in enumerate(self.whole.deeds_of(part)):
             rows.append(self.play_deed((part, at), deed))
         return rows
 
@@ -102,7 +102,7 @@ class Player:
         for name in sorted(self.held, key=str):
             if name not in names and name not in self.pinned:
                 key = tuple([self.number_for(word, place, name) for word in self.order])
-                if best is None or key > greatest:
+                if key > greatest:
                     best, greatest = name, key
         if best is None:
             raise Crowded(place)

@@ -270,6 +270,8 @@ def check_node(sources, node, tell):
                 isinstance(side, ast.Constant) and side.value in (None, True, False)
             ):
                 tell("L20", line, "is")
+    if isinstance(node, ast.JoinedStr) and "__" in ast.unparse(node):
+        tell("L27", line, "underscores in a string with a brace")
     if isinstance(node, (ast.Set, ast.SetComp)) or called(node) == "set":
         if called(node.parent) not in ("sorted", "len") and not isinstance(node.parent, ast.Compare):
             tell("L24", line, "a set")

@@ -70,14 +70,14 @@ class Place:
         self.names = needed(task.program, place, **told)
         self.sound = list(task.standings(place, **told))
         self.steps = list(steps(task, self.sound, self.names))
+        self.known = {}
 
     def leads(self, deed, there):
-        found = {}
-        for one in self.sound:
-            behind = done(self.task, one, deed, there.names)
-            if behind is not None:
-                found[str(one)] = str(behind)
-        return found
+        key = (str(deed), there.names)
+        if key not in self.known:
+            behind = {str(one): done(self.task, one, deed, there.names) for one in self.sound}
+            self.known[key] = {text: str(other) for text, other in behind.items() if other is not None}
+        return self.known[key]
 
 
 class Look:

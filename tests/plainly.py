@@ -49,6 +49,27 @@ def drawn_task(source, loops=0, names="abcd", most=4, slots=4):
             continue
 
 
+def turning_task(source, loops, names="abcd", most=5):
+    """A task of few slots whose loops use names, most of them given, in turn: its rounds differ from one another."""
+    while True:
+        rows = []
+        for _ in range(5):
+            row = [Use(name) for name in source.sample(names, source.randrange(min(most, len(names)) + 1))]
+            row += [drawn_deed(source, list(names)) for _ in range(source.choice((0, 0, 0, 1, 2)))]
+            rows.append(row)
+        again = {name: source.choice((1, 2, 9)) for name in names if source.random() < 0.2}
+        try:
+            program = Program(
+                rows[0][:source.choice((2, 4))], rows[1] if loops else None, rows[2][:2] if loops == 2 else (),
+                rows[3] if loops == 2 else None, rows[4][:2] if loops else (),
+                given=[name for name in names if name not in again or source.random() < 0.5], again=again,
+                results=[name for name in names if source.random() < 0.1],
+            )
+            return Task(program, source.choice((2, 2, 3)), source.choice((None, drawn_prices(source, names))))
+        except StowError:
+            continue
+
+
 def needed_now(deeds, results, at):
     """The needed names ahead of a deed of a straight row, by the words of the document."""
     found = []

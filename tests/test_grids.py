@@ -16,7 +16,7 @@ from loopstow.rows import Row
 from loopstow.straight import least_price
 from loopstow.tables import turn
 from loopstow.tasks import Task
-from plainly import drawn_task, late_tasks, plain_least
+from plainly import drawn_task, late_tasks, plain_least, turning_task
 
 
 def pair():
@@ -141,15 +141,52 @@ class Grids(Helping, unittest.TestCase):
             task = drawn_task(source, loops=2, names="abcd" if index % 2 else "abc", most=4)
             self.turns_are_least(Grid(task))
 
-    def turns_are_least(self, grid, far=24):
-        near = range(1, far)
-        for told, numbers in (
-            (grid.first_turn, [[grid[n, m] for n in near] for m in near]),
-            (grid.second_turn, [[grid[n, m] for m in near] for n in near]),
+    def test_turns_of_several_rounds(self):
+        """Loops that use names in turn: their least plans differ from round to round."""
+        source = random.Random(509)
+        periods = {}
+        for _ in range(120):
+            task = turning_task(source, 2)
+            grid = Grid(task)
+            self.turns_are_least(grid, 30)
+            periods[grid.first_turn[1], grid.second_turn[1]] = True
+            program = task.program
+            edge = row(alone(task, program.ahead, program.loop, (*program.between, *program.behind)), 400)
+            self.assertEqual(grid.along(0), edge)
+            self.assertEqual(grid.down(0) >> 1, row(alone(
+                task, (*program.ahead, *program.between), program.second, program.behind), 400) >> 1)
+            for _ in range(4):
+                n, m = source.randrange(1, 7), source.randrange(1, 7)
+                self.same(grid[n, m], least_price(task, n, m))
+        for text, prices, told in (
+            ("given a b c d e\nuse e\nloop\nuse b\nuse d\nuse a\nuse c\nuse e\nend\nuse d\nuse a\nsecond\nend", None, (1, 4, 10)),
+            ("given a b c d e\nloop\nuse c\nuse e\nuse d\nuse b\nuse a\nend\nuse b\nuse e\nsecond\nuse d\nuse e\nend\n"
+             "use b\nuse e", Prices(5, 1, {"d": 2}), (2, 4, 44)),
+            ("given a b c d e\ndo a c\nloop\nuse e\nuse b\nuse c\nuse a\nuse d\nend\nuse e\nuse b\nsecond\nuse d\nuse a\nend\n"
+             "use d\nmake c", None, (6, 4, 10)),
+            # The tables turn later, and after twice as many rounds.
+            ("given a b c e\nagain d 2\nuse d\nuse e\nloop\nuse c\nuse b\nuse a\nuse e\nuse d\nend\nsecond\nuse b\nend", None,
+             (6, 2, 5)),
+            ("given a b c d e\nuse e\nuse d\nloop\nuse e\nuse d\nuse b\nuse a\nuse c\nend\nsecond\nend\nuse e\nuse b", None,
+             (1, 2, 5)),
+            ("given a b d e\nagain c 2\nuse b\nuse d\nloop\nuse c\nuse d\nuse b\nuse a\nuse e\nend\nsecond\nend\nuse a\nuse d",
+             None, (8, 2, 5)),
         ):
+            grid = Grid(Task(Program.read(text), 3, prices))
+            self.same(grid.first_turn, told)
+            self.turns_are_least(grid, 30)
+        for shape in ((1, 1), (1, 2), (2, 1), (1, 3), (3, 1)):
+            self.assertIn(shape, periods)
+
+    def turns_are_least(self, grid, far=24):
+        for told, at in ((grid.first_turn, lambda n, m: grid[n, m]), (grid.second_turn, lambda m, n: grid[n, m])):
             N, p, q = told
-            self.assertLess(N + 2 * p, far)
-            self.same(told, least_turn(numbers, far // 2))
+            many = max(far, 2 * N + 3 * p)
+            if many < 70:
+                near = range(1, many)
+                self.same(told, least_turn([[at(n, m) for n in near] for m in range(1, far)], many // 2))
+            for other in (1, 2, 3, 10 ** 20):
+                self.same({at(n + p, other) - at(n, other) for n in range(N, N + 2 * p + 2)} == {q}, True)
         for n, m in ((10 ** 20, 1), (1, 10 ** 20), (10 ** 20, 10 ** 21), (10 ** 30 + 1, 10 ** 30)):
             _, p, q = grid.first_turn
             self.same(grid[n + p, m] - grid[n, m], q if n >= grid.first_turn[0] else grid[n + p, m] - grid[n, m])
@@ -220,6 +257,8 @@ class Grids(Helping, unittest.TestCase):
             for n in range(7):
                 for m in range(4):
                     self.same(Grid(task, 5)[n, m], least_price(task, n, m))
+            for m, end in enumerate((ends[1], ends[0])):
+                self.assertEqual(Grid(task, 5).along(m), row(alone(task, program.ahead, program.loop, end)))
             self.turns_are_least(Grid(task, 5))
 
     def test_needed_names(self):

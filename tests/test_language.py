@@ -29,6 +29,9 @@ class Language(unittest.TestCase):
             ("L5", GIVEN + "    @property\n    def n(self):\n        'd'\n        return 1\n"),
             ("L18", "class C:\n    'd'\n\n\ndef f():\n    'd'\n    return [C]\n"),
             ("L19", "def f(x):\n    'd'\n    try:\n        return x[0]\n    except TypeError:\n        return 0\n"),
+            ("L12", "def f(x):\n    'd'\n    return x.__name__\n"),
+            ("L12", "def f(x):\n    'd'\n    return x.__class__\n"),
+            ("L27", "def f(x):\n    'd'\n    return f'{x.__class__.__name__}'\n"),
             ("L20", "def f(x, y):\n    'd'\n    return x is y\n"),
         ):
             with tempfile.TemporaryDirectory() as folder:

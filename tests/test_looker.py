@@ -28,6 +28,11 @@ def rich():
     return Task(program, 1, Prices(2, 3))
 
 
+def bare():
+    """A task with standings at the end to which nothing leads."""
+    return Task(Program(loop=[Use("a")], given=["a"], again={"x": 1}, results=["x"]), 1, Prices(2, 3))
+
+
 class Looker(Helping, unittest.TestCase):
     def test_document(self):
         sheet = paper(one())
@@ -61,10 +66,10 @@ class Looker(Helping, unittest.TestCase):
 
     def test_each_number(self):
         """No number of a paper may be another one."""
-        for task in (one(), rich()):
+        for task in (one(), rich(), bare()):
             sheet, told = paper(task), row(task)
             numbers = [path for path in places_in(sheet) if isinstance(part_at(sheet, path), int)]
-            self.assertGreater(len(numbers), 30)
+            self.assertGreater(len(numbers), 20)
             for path in numbers:
                 for more in (1, -1):
                     bad = changed_at(sheet, path, part_at(sheet, path) + more)
@@ -132,6 +137,67 @@ class Looker(Helping, unittest.TestCase):
             found.append([raised(table) for table in rounds[len(rounds) - p]])
             rounds.append(found[-1])
         return found
+
+    def test_tables_that_do_not_come_round(self):
+        """The row comes round ahead of the tables: a paper that ends there tells all numbers right, and is refused."""
+        for task, (s, p, q) in late_tasks():
+            _, none, before, rounds, last = paper(task, s + p)
+            told = row(task, s + p)
+            early = max(0, told.start - 1)
+            self.assertLess(early, s)
+            self.same(shows_row(task, told, ((early, p, q), none, before, rounds[:early + p], last)), False)
+
+    def test_turns_of_no_rounds(self):
+        """A period of 0 shows nothing; neither does a turn with a period that is not one of the row."""
+        sheet = paper(one())
+        for r in range(3):
+            bad = ((r, 0, 0), sheet[1], sheet[2], sheet[3][:r], sheet[4])
+            self.same([shows_row(one(), row(one()), bad), Look(one()).shows_row(row(one()), bad)], [False, False])
+        held = Task(Program(loop=[Use("a"), Use("b"), Use("c")], given=["a", "b", "c"]), 3)
+        sheet, (s, p, q) = paper(held), paper(held)[0]
+        self.same([p, q, str(row(held))], [1, 0, "0 | 3 + 0"])
+        other = Row([0, *[3] * (s + 2)], 2, 1)
+        self.assertLessEqual(other.start, s + 1)
+        self.same([shows_row(held, row(held), sheet), shows_row(held, other, sheet)], [True, False])
+
+    def test_other_entries(self):
+        """Entries without their moves, with a detour, or from and to other standings, where moves may cost nothing."""
+        source = random.Random(303)
+        shown, refused = 0, 0
+        for index in range(24):
+            task = drawn_task(source, loops=1, names="ab", most=2)
+            if index % 2:
+                task = Task(task.program, task.slots, Prices(0, index % 4 // 2, {"a": 0}))
+            look, sheet, told = Look(task), paper(task), row(task)
+            for path in places_in(sheet):
+                entry = part_at(sheet, path)
+                if not path or path[0] < 2 or len(sheet[3]) > 3:
+                    continue
+                if not isinstance(entry, tuple) or len(entry) != 3 or not isinstance(entry[0], int):
+                    continue
+                for other in self.other_entries(task, source, path, entry):
+                    bad = changed_at(sheet, path, other)
+                    found = shows_row(task, told, bad)
+                    self.same(found, look.shows_row(told, bad))
+                    shown, refused = shown + found, refused + (not found)
+        self.assertGreater(min(shown, refused), 100)
+
+    def other_entries(self, task, source, path, entry):
+        """Entries of the same form as one of a paper."""
+        to_go = path[0] == 4
+        number, moves, text = entry if to_go else (entry[0], entry[2], entry[1])
+        form = lambda number, moves, text: (number, moves, text) if to_go else (number, text, moves)
+        detour = source.choice(["a", "b"])
+        price = task.prices.load_of(detour)
+        texts = [str(one) for one in task.standings(("loop", 0))]
+        return [
+            form(number, (), text), form(number, moves[:-1], text), form(number, moves[1:], text),
+            form(number, moves[::-1], text), form(number, moves, source.choice(texts)), form(number, moves, None),
+            form(number + price, (f"forget {detour}", f"load {detour}", *moves), text),
+            form(number + price, (*moves, f"forget {detour}", f"load {detour}"), text),
+            form(number + task.prices.store, (f"store {detour}", *moves), text),
+            form(number + task.prices.store, (*moves, f"store {detour}"), text), form(number, (f"forget {detour}", *moves), text),
+        ]
 
     def test_empty_loop(self):
         program = Program([Use("a")], [], behind=[Use("b"), Make("a")], given=["a", "b"], results=["a"])

@@ -172,11 +172,19 @@ class Paces(Helping, unittest.TestCase):
         ring, numbers = pace_paper(task)
         doubled = [{text: 2 * number for text, number in table.items()} for table in numbers]
         self.same([shows_pace(task, (6, 4), (ring, doubled)), shows_pace(task, (3, 2), (ring, doubled))], [False, False])
-        for value in [*strange_values(), (3, 2, 1), [3, 2], (3.0, 2), (True, 2), (3, True)]:
+        for value in [*strange_values(), (3, 2, 1), [3, 2], (3.0, 2), (True, 2), (3, True), (3, None), (3, "2"), (None, 2)]:
             self.same(shows_pace(task, value, (ring, numbers)), False)
             self.same(shows_pace(task, (3, 2), value), False)
             self.same(shows_pace(task, (3, 2), (ring, value)), False)
             self.same(shows_pace(task, (3, 2), (value, numbers)), False)
+
+    def test_true_is_not_one(self):
+        for slots, told in ((1, (2, 1)), (2, (0, 1))):
+            task = in_turn("ab", slots)
+            sheet = pace_paper(task)
+            self.same([pace(task), shows_pace(task, told, sheet)], [told, True])
+            self.same([shows_pace(task, (told[0], True), sheet), shows_pace(task, (told[0], 1.0), sheet)], [False, False])
+            self.same(shows_pace(task, (bool(told[0]), 1), sheet), False)
 
     def test_facts(self):
         source = random.Random(314)

@@ -17,7 +17,7 @@ from loopstow.rules import Rule, beaten, rule_plan, rule_price, rule_row
 from loopstow.straight import least_price
 from loopstow.tables import turn
 from loopstow.tasks import Task
-from plainly import drawn_task, late_tasks
+from plainly import drawn_task, late_tasks, turning_task
 from plainrules import head_states, plain_rule
 
 WORDS = ("dead", "far", "old", "clean", "cheap")
@@ -107,10 +107,30 @@ class Rules(Helping, unittest.TestCase):
             self.assertGreaterEqual(rule_price(task, rule, n, m), least_price(task, n, m))
         self.assertGreater(crowded, 20)
 
+    def test_against_a_plain_play_of_many_uses(self):
+        """Few slots and many names, so that there is a choice at most deeds."""
+        source = random.Random(403)
+        for index in range(400):
+            loops = index % 3
+            task = turning_task(source, loops, "abcdef")
+            words = source.sample(WORDS, source.choice((1, 1, 2, 3)))
+            if index % 4 == 0:
+                words = ["far"]
+            pins = source.sample("abcdef", source.choice((0, 0, 0, 1)))
+            n, m = source.randrange(4) if loops else 0, source.randrange(4) if loops == 2 else 0
+            try:
+                wanted = plain_rule(task, words, pins, n, m)
+            except Crowded as why:
+                self.refused(Crowded, lambda: rule_plan(task, Rule(*words, pins=pins), n, m), why.place)
+                continue
+            self.same(texts(rule_plan(task, Rule(*words, pins=pins), n, m)), wanted)
+
     def test_rows(self):
         source = random.Random(402)
-        for index in range(150):
+        for index in range(200):
             task = drawn_task(source, loops=1, names="abcd" if index % 2 else "abc", most=4)
+            if index % 4 == 0:
+                task = turning_task(source, 1)
             words, pins = drawn_rule(source)
             rule = Rule(*words, pins=pins)
             try:
@@ -158,6 +178,10 @@ class Rules(Helping, unittest.TestCase):
         program = Program([Use("a", "b"), Use("c")], [Use("b"), Do("a", "b")], behind=[Use("a")], given=["a", "b", "c"])
         for n in (0, 1, 3):
             self.same(texts(rule_plan(Task(program, 2), Rule("far"), n))[1], ["forget a", "load c"])
+        later = Program([Use("a", "b"), Use("c")], [Use("a"), Use("b")], given=["a", "b", "c"])
+        between = Program(loop=[Use("a", "b")], between=[Use("c")], second=[Use("a"), Use("b")], given=["a", "b", "c"])
+        self.same(texts(rule_plan(Task(later, 2), Rule("far")))[1], ["forget b", "load c"])
+        self.same(texts(rule_plan(Task(between, 2), Rule("far"), 1))[1], ["forget b", "load c"])
         last = Program([Use("a", "b"), Use("c")], [Use("b")], behind=[Use("a")], given=["a", "b", "c"])
         self.same(texts(rule_plan(Task(last, 2), Rule("far")))[1:], [["forget a", "load c"], ["forget b", "load a"], []])
         two = Program(loop=[Use("a")], between=[Use("b"), Use("c")], second=[Use("b")], behind=[Use("a")], given="abc")
