@@ -114,7 +114,8 @@ def first_turn_of(rows, turn):
     # Those of one more period are told, so that each one can be held against a later one.
     known = [*rows, *[row + gain for row in rows[since + 1:]]]
     # The tables may take longer to come round than the rows that follow from them.
-    shorter = [count for count in range(1, period + 1) if comes_again(known, since + 1, period, count)][0]
+    counts = [count for count in range(1, period + 1) if comes_again(known, since + 1, period, count)]
+    shorter = counts[0]
     more = known[since + 1 + shorter][0] - known[since + 1][0]
     start = since + 1
     while start > 1 and known[start - 1 + shorter] == known[start - 1] + more:

@@ -27,12 +27,14 @@ class Halves:
     def reach_over(self, part, reach, first, further, second):
         """The reach behind a part that begins with this one."""
         grounds = self.grounds_of(part, first, further, second)
-        return [reach, *reaches_along(self.yard, self.whole.deeds_of(part), grounds[1:], reach, True)][-1]
+        found = [reach, *reaches_along(self.yard, self.whole.deeds_of(part), grounds[1:], reach, True)]
+        return found[-1]
 
     def rest_over(self, part, rest, second):
         """The rest ahead of a part that ends with this one, without a further round of its loop."""
         grounds = self.grounds_of(part, True, False, second)
-        return [*rests_along(self.yard, self.whole.deeds_of(part), grounds[:-1], rest), rest][0]
+        found = [*rests_along(self.yard, self.whole.deeds_of(part), grounds[:-1], rest), rest]
+        return found[0]
 
     def head_of(self, part, second):
         """The ground at the head of a loop, with this round to come."""

@@ -164,7 +164,7 @@ class Looker(Helping, unittest.TestCase):
         """Entries without their moves, with a detour, or from and to other standings, where moves may cost nothing."""
         source = random.Random(303)
         shown, refused = 0, 0
-        for index in range(24):
+        for index in range(14):
             task = drawn_task(source, loops=1, names="ab", most=2)
             if index % 2:
                 task = Task(task.program, task.slots, Prices(0, index % 4 // 2, {"a": 0}))
