@@ -53,7 +53,7 @@ def rested(rounds, levels, ring):
     while changed:
         changed = False
         costs, bases = lapped(rounds, spread_levels(rounds, levels), ring.per)
-        for spot in levels:
+        for spot in list(levels):
             cost = costs[spot] - ring.gain
             if cost < levels[spot]:
                 levels[spot] = cost

@@ -41,7 +41,7 @@ class Desk:
                 return answer_of_rule(self._task, word, Rule(*words))
             return answer(self._task, word, words)
         except StowError as why:
-            return "refused " + why.__class__.__name__
+            return f"refused {why.class_name()}"
 
     def run(self, *lines):
         """Carries out lines and returns the answers."""

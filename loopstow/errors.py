@@ -4,6 +4,10 @@
 class StowError(ValueError):
     """The base of all errors of the package."""
 
+    def class_name(self):
+        """The name of the class of the error."""
+        return self.__class__.__name__
+
 
 class BadName(StowError):
     """A value that is no name."""

@@ -146,7 +146,7 @@ def faults(folder):
         check_level(sources.trees[name], tell)
         check_bindings(sources.trees[name], tell)
         for node in ast.walk(sources.trees[name]):
-            for check in (check_node, check_name, check_call, check_function, check_class, check_error):
+            for check in (check_node, check_name, check_call, check_function, check_class, check_error, check_loop):
                 check(sources, node, tell)
     for name, line, why in changes(sources):
         found.append(f"L5 {name}:{line} {why}")
@@ -314,6 +314,42 @@ def check_name(sources, node, tell):
     for name in names:
         if name.startswith("__") and name not in DUNDERS or re.search(BARRED_NAMES, name) or name in ("open", "input"):
             tell("L12", line, f"name {name}")
+
+
+def check_loop(sources, node, tell):
+    """What a loop or a comprehension goes over is not changed in it."""
+    if isinstance(node, ast.For):
+        heads, rows = [node.iter], node.body + node.orelse
+    elif isinstance(node, (ast.ListComp, ast.DictComp, ast.SetComp)):
+        heads, rows = [one.iter for one in node.generators], [node]
+    else:
+        return
+    gone_over = {ast.unparse(one) for head in heads for one in sources_of(head)}
+    for row in rows:
+        for one in ast.walk(row):
+            changed = None
+            if isinstance(one, ast.Subscript) and isinstance(one.ctx, (ast.Store, ast.Del)):
+                changed = one.value
+            elif isinstance(one, ast.Call) and isinstance(one.func, ast.Attribute) and one.func.attr in CHANGING:
+                changed = one.func.value
+            elif isinstance(one, ast.AugAssign) and not isinstance(one.value, ast.Constant):
+                changed = one.target
+            if changed is not None and ast.unparse(changed) in gone_over:
+                tell("L23", one.lineno, f"{ast.unparse(changed)} is changed while it is gone over")
+
+
+def sources_of(head):
+    """The names, attributes and items that something goes over without a copy."""
+    if isinstance(head, (ast.Name, ast.Attribute, ast.Subscript)):
+        yield head
+    elif called(head) in ("enumerate", "zip", "reversed"):
+        for one in head.args:
+            yield from sources_of(one)
+    elif isinstance(head, ast.Call) and isinstance(head.func, ast.Attribute) and head.func.attr in VIEWS:
+        yield from sources_of(head.func.value)
+    elif isinstance(head, (ast.IfExp, ast.BoolOp)):
+        for one in [head.body, head.orelse] if isinstance(head, ast.IfExp) else head.values:
+            yield from sources_of(one)
 
 
 def is_name_of_class(node):

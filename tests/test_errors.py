@@ -31,6 +31,7 @@ class Errors(unittest.TestCase):
             values = [object() for _ in fields]
             told = getattr(errors, name)(*values)
             self.assertEqual(vars(told), dict(zip(fields, values)), name)
+            self.assertEqual(told.class_name(), name)
             self.assertEqual(vars(getattr(errors, name)(**dict(zip(fields, values)))), dict(zip(fields, values)))
             with self.assertRaises(TypeError):
                 getattr(errors, name)(*values, *([1] if fields else []), **({} if fields else {"value": 1}))

@@ -24,6 +24,8 @@ class Language(unittest.TestCase):
             ("L3", "ROWS = [1] + [2]\n"),
             ("L2", "import os\n"),
             ("L23", "def f(x):\n    'd'\n    row = zip(x, x)\n    return row\n"),
+            ("L23", "def f(xs):\n    'd'\n    for x in xs:\n        xs[x] = 1\n"),
+            ("L23", "def f(xs):\n    'd'\n    for at, x in enumerate(xs):\n        xs.append(at)\n"),
             ("L24", "def f(x):\n    'd'\n    return set(x)\n"),
             ("L25", "def f(x):\n    'd'\n    return x.hex()\n"),
             ("L5", GIVEN + "    @property\n    def n(self):\n        'd'\n        return 1\n"),
