@@ -74,6 +74,8 @@ class Standings(Helping, unittest.TestCase):
                         self.same([one == other, one != other], [same, not same])
         with self.assertRaises(TypeError):
             Standing() <= "- / -"
+        with self.assertRaises(TypeError):
+            Standing() >= "- / -"
 
     def test_only(self):
         standing = Standing(["a", "b", "c"], ["b", "d"])
